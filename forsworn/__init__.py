@@ -1,0 +1,1 @@
+"""Forsworn: a moot whose old cases turn with the oaths that later ones break."""

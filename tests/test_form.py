@@ -1,4 +1,4 @@
-"""The form of the package's files, as far as it can be read off them: the rules L1 to L28 of LANGUAGE.md."""
+"""The form of the package's files: many rules of LANGUAGE.md, though not L9, L11, L13, L18, L26 and L28."""
 
 import ast
 import builtins

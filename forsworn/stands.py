@@ -34,13 +34,12 @@ def margin(suits, case):
 
 
 def broken(suits):
-    oaths = [suit[NAMED] for suit, stands in zip(suits, settled(suits)) if stands and suit[NAMED] is not None]
-    return sorted(set(oaths))
+    return sorted(breaking(suits))
 
 
 def breakers(suits, case, name):
     check_oath(suits, case, name)
-    return [later for later, stands in enumerate(settled(suits)) if stands and suits[later][NAMED] == (case, name)]
+    return breaking(suits).get((case, name), [])
 
 
 def chain(suits, case):
@@ -56,6 +55,24 @@ def chain(suits, case):
 def bearing(suits, case):
     check_case(suits, case)
     return [later for later in range(case + 1, len(suits)) if case in chain(suits, later)]
+
+
+def namers(suits):
+    return naming(suits, list(range(len(suits))))
+
+
+def breaking(suits):
+    return naming(suits, [case for case, stands in enumerate(settled(suits)) if stands])
+
+
+def naming(suits, cases):
+    # By oath the list of those of the cases that name it; an oath that none of them names is no key.
+    named_by = {}
+    for case in cases:
+        oath = suits[case][NAMED]
+        if oath is not None:
+            named_by.setdefault(oath, []).append(case)
+    return named_by
 
 
 def check_case(suits, case):

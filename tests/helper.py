@@ -47,6 +47,24 @@ def made_suits(seed, many, side=3, weight=6, need=6, naming=0.8):
     return suits
 
 
+def line_of_suits(seed, many, side, weight=1000):
+    """Many suits with full sides; each names an oath of the one ahead of it, or of one some places ahead."""
+    chance = random.Random(seed)
+    suits = []
+    for case in range(many):
+        names = chance.sample(LETTERS, 2 * side)
+        ones = made_side(chance, names[:side], weight)
+        others = made_side(chance, names[side:], weight)
+        lead = sum(heavy for name, heavy in ones) - sum(heavy for name, heavy in others)
+        named = None
+        if case:
+            ahead = max(0, case - chance.choice((1, 1, 1, 1, 2, 3)))
+            named = (ahead, chance.choice(swearers(suits[ahead])))
+        # A need near what the ones have more, so that many cases turn with a single oath.
+        suits.append(suit(ones, others, max(1, lead + chance.randint(-weight, weight)), named))
+    return suits
+
+
 def some_oaths(seed, suits):
     chance = random.Random(seed)
     oaths = all_oaths(suits)

@@ -1,4 +1,4 @@
-"""The form of the package's files: many rules of LANGUAGE.md, though not L9, L11, L13, L18, L26 and L28."""
+"""The form of the package's files: many rules of LANGUAGE.md, though not L9 and L11, and of others only a part."""
 
 import ast
 import builtins
@@ -30,6 +30,13 @@ WORDS = re.compile(
     r"|NamedTuple|TypedDict|TYPE_CHECKING|abstractmethod)\b|dataclass|overload|contextmanager"
 )
 FILE_NAMES = {"test", "tests", "testing", "site", "conftest", "sitecustomize", "usercustomize"}
+# L25's methods that a value of an object may be called, too.
+VALUES = set("count index title find get join lower upper split strip copy add".split())
+PYTHONS_OWN = {
+    name for kind in (str, int, list, tuple, dict, set, frozenset, bytes, bytearray, float, BaseException)
+    for name in vars(kind) if not name.startswith("__")
+}
+CHANGES = set("append clear extend insert pop remove reverse setdefault update".split())
 WALKED = {"zip", "enumerate", "reversed", "range"}
 WALKERS = {"list", "tuple", "dict", "sorted", "sum", "any", "all", "enumerate", "zip", "min", "max"}
 NODES = (
@@ -72,6 +79,15 @@ def top_names(tree):
         elif isinstance(node, ast.ImportFrom):
             names += [alias.asname or alias.name for alias in node.names]
     return names
+
+
+def walked_in(node):
+    """What a loop over this walks: the thing itself, or what lies in enumerate, zip, reversed or items."""
+    if called(node) in ("enumerate", "zip", "reversed"):
+        return [part for inner in node.args for part in walked_in(inner)]
+    if isinstance(node, ast.Call) and getattr(node.func, "attr", "") in ("items", "keys", "values"):
+        return walked_in(node.func.value)
+    return [node]
 
 
 def parents(tree):
@@ -197,6 +213,56 @@ class Form(unittest.TestCase):
                 if isinstance(node, ast.Call) and isinstance(node.func, ast.Attribute):
                     self.assertIn(node.func.attr, free, where(path, node))
 
+    def test_methods_and_values(self):
+        methods = self.own_methods()
+        values = set()
+        for path, text, tree in self.each():
+            tops = top_names(tree)
+            for node in ast.walk(tree):
+                if isinstance(node, ast.Attribute) and isinstance(node.ctx, ast.Store):
+                    values.add(node.attr)
+                    self.assertIsInstance(node.value, ast.Name, where(path, node))
+                    self.assertNotIn(node.value.id, tops, where(path, node))
+                if isinstance(node, ast.ClassDef):
+                    named = [part.name for part in node.body if isinstance(part, ast.FunctionDef)]
+                    self.assertEqual(len(set(named)), len(named), where(path, node))
+        self.assertFalse(methods & values)
+        self.assertFalse((values & PYTHONS_OWN) - VALUES)
+        self.assertFalse((methods & PYTHONS_OWN) - METHODS - {"add", "discard"})
+
+    def test_classes_are_not_handed_on(self):
+        trees = [ast.parse(path.read_text(encoding="utf-8")) for path in FILES]
+        classes = {node.name for tree in trees for node in ast.walk(tree) if isinstance(node, ast.ClassDef)}
+        for path, text, tree in self.each():
+            above = parents(tree)
+            for node in ast.walk(tree):
+                if isinstance(node, ast.Name) and node.id in classes:
+                    over = above[node] if not isinstance(above[node], ast.Tuple) else above[above[node]]
+                    is_called = isinstance(over, ast.Call) and over.func == node or called(over) == "isinstance"
+                    is_base = isinstance(over, ast.Attribute) and over.attr == "__init__"
+                    self.assertTrue(
+                        is_called or is_base or isinstance(over, (ast.ClassDef, ast.ExceptHandler)), where(path, node)
+                    )
+
+    def test_two_underscores(self):
+        for path, text, tree in self.each():
+            for node in ast.walk(tree):
+                if isinstance(node, ast.FunctionDef) and node.name == "__init__":
+                    told = [part for part in ast.walk(node) if isinstance(part, ast.Return) and part.value is not None]
+                    self.assertFalse(told, where(path, node))
+                elif isinstance(node, ast.FunctionDef) and node.name.startswith("__"):
+                    self.fail(f"best not written: {where(path, node)}")
+
+    def test_two_forms(self):
+        for path, text, tree in self.each():
+            rows = []
+            for node in ast.walk(tree):
+                if isinstance(node, ast.Set):
+                    self.assertLess(len(node.elts), 3, where(path, node))
+                if isinstance(node, ast.Lambda):
+                    rows.append((node.lineno, [one.arg for one in node.args.args]))
+            self.assertFalse([row for row in rows if rows.count(row) > 1], path.name)
+
     def test_is_and_numbers_and_texts(self):
         for path, text, tree in self.each():
             for node in ast.walk(tree):
@@ -224,6 +290,37 @@ class Form(unittest.TestCase):
                     over = above[node]
                     asked = isinstance(over, (ast.Compare, ast.BinOp))
                     self.assertTrue(asked or called(over) in ("sorted", "len"), where(path, node))
+
+    def test_views_are_walked_at_once(self):
+        for path, text, tree in self.each():
+            above = parents(tree)
+            for node in ast.walk(tree):
+                if isinstance(node, ast.Call) and getattr(node.func, "attr", "") in ("items", "keys", "values"):
+                    over = above[node]
+                    walks = isinstance(over, (ast.For, ast.comprehension)) and over.iter == node
+                    self.assertTrue(walks or called(over) in WALKERS and over.args[0] == node, where(path, node))
+
+    def test_what_a_loop_walks_is_not_changed(self):
+        for path, text, tree in self.each():
+            for loop in [node for node in ast.walk(tree) if isinstance(node, ast.For)]:
+                walked = {ast.unparse(part) for part in walked_in(loop.iter)}
+                for node in [node for part in loop.body for node in ast.walk(part)]:
+                    if isinstance(node, ast.Subscript) and isinstance(node.ctx, ast.Store):
+                        self.assertNotIn(ast.unparse(node.value), walked, where(path, node))
+                    if isinstance(node, ast.Call) and getattr(node.func, "attr", "") in CHANGES:
+                        self.assertNotIn(ast.unparse(node.func.value), walked, where(path, node))
+                    if isinstance(node, ast.AugAssign):
+                        self.assertNotIn(ast.unparse(node.target), walked, where(path, node))
+
+    def test_locals_are_not_called_like_imports_or_classes(self):
+        for path, text, tree in self.each():
+            drawn = [node for node in tree.body if isinstance(node, (ast.ImportFrom, ast.ClassDef))]
+            taken = set(top_names(ast.Module(body=drawn, type_ignores=[])))
+            for node in ast.walk(tree):
+                if isinstance(node, ast.arg):
+                    self.assertNotIn(node.arg, taken, where(path, node))
+                if isinstance(node, ast.Name) and isinstance(node.ctx, ast.Store):
+                    self.assertNotIn(node.id, taken, where(path, node))
 
     def test_errors(self):
         for path, text, tree in self.each():

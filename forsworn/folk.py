@@ -52,10 +52,7 @@ class Folk:
     def stands_for(self, name, day):
         check_day(day)
         self.check_known(name)
-        # Each heir's own death is told later than that of whom he follows, so that no line comes round.
-        while self.died_by(name, day):
-            name = self.heirs[name]
-        return name
+        return self.stand_in(name, day)
 
     def twin(self):
         copies = {}
@@ -68,7 +65,13 @@ class Folk:
         other.heirs = dict(self.heirs)
         return other
 
-    # These three ask for no measure and no known name: they serve those who hold these in hand already.
+    # These four ask for no measure and no known name: they serve those who hold these in hand already.
+
+    def stand_in(self, name, day):
+        # Each heir's own death is told later than that of whom he follows, so that no line comes round.
+        while self.died_by(name, day):
+            name = self.heirs[name]
+        return name
 
     def died_by(self, name, day):
         return name in self.deaths and self.deaths[name] <= day
@@ -104,8 +107,7 @@ class Folk:
         self.check_known(heir)
         self.check_there(name, day)
         self.check_there(heir, day)
-        if name in self.deaths:
-            raise Dead(f"the death of {name} is told already")
+        self.check_untold(name)
         if heir == name or heir in self.deaths:
             raise NoHeir(f"{heir} can be no heir of {name}")
 
@@ -120,3 +122,7 @@ class Folk:
     def check_living(self, name, day):
         if self.died_by(name, day):
             raise Dead(f"{name} is dead on day {day}")
+
+    def check_untold(self, name):
+        if name in self.deaths:
+            raise Dead(f"the death of {name} is told already")

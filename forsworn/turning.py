@@ -40,8 +40,10 @@ def breakings(case, side, broken_by):
 def keepings(case, side, broken_by, turnings):
     ways = []
     for name, weight in side:
-        if (case, name) in broken_by:
-            ways.append((joined([turnings[later] for later in broken_by[(case, name)]]), weight))
+        rows = [turnings[later] for later in broken_by.get((case, name), [])]
+        # A need of nought or less may let a case stand that nothing turns: its oath stays broken.
+        if rows and None not in rows:
+            ways.append((joined(rows), weight))
     return ways
 
 

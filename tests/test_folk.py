@@ -7,68 +7,10 @@ import unittest
 from forsworn import errors
 from forsworn.errors import Dead, NoHeir, NoMeasure, NoName, NotYet, Taken, TooMany, Unknown
 from forsworn.folk import Folk
-from tests.helper import LETTERS, Refusing
+from tests.helper import FAR, FORTY, Refusing, SlowFolk
 
-FAR = 10 ** 18 - 1
-FORTY = [first + second for first in LETTERS[:4] for second in LETTERS[:10]]
 BAD_DAYS = (-1, -9999, -FAR, 10000, 10001, FAR)
 BAD_WEIGHTS = (0, -1, -1000, -FAR, 1001, 1002, FAR)
-
-
-class SlowFolk:
-    """A folk by the words of [10] and [17]: the list of what was told, asked anew for each answer."""
-
-    def __init__(self, told=()):
-        self.told = list(told)
-
-    def of(self, word, name):
-        return [deed for deed in self.told if deed[0] == word and deed[1] == name]
-
-    def names(self):
-        return [deed[1] for deed in self.told if deed[0] == "come"]
-
-    def came(self, name):
-        return self.of("come", name)[0][2]
-
-    def weight(self, name, day):
-        days = self.of("come", name) + self.of("rise", name)
-        not_later = [deed for deed in days if deed[2] <= day]
-        latest = max(deed[2] for deed in not_later)
-        return [deed[3] for deed in self.told if deed in not_later and deed[2] == latest][-1]
-
-    def dead(self, name, day):
-        return any(deed[2] <= day for deed in self.of("die", name))
-
-    def stands_for(self, name, day):
-        return self.stands_for(self.of("die", name)[0][3], day) if self.dead(name, day) else name
-
-    def due(self, deed):
-        """All refusals that are due for a deed, in any order."""
-        word, name, day, last = deed
-        people = [name, last] if word == "die" else [name]
-        unknown = word != "come" and [person for person in people if person not in self.names()]
-        due = set()
-        if word == "come" and not (1 <= len(name) <= 12 and set(name) <= set(LETTERS)):
-            due.add("NoName")
-        if day not in range(10000) or word != "die" and last not in range(1, 1001):
-            due.add("NoMeasure")
-        if unknown:
-            due.add("Unknown")
-        if word == "come" and name in self.names():
-            due.add("Taken")
-        if word != "come" and [one for one in people if one in self.names() and day < self.came(one)]:
-            due.add("NotYet")
-        if word == "rise" and self.dead(name, day) or word == "die" and self.of("die", name):
-            due.add("Dead")
-        if word == "die" and (last == name or self.of("die", last)):
-            due.add("NoHeir")
-        if word == "come" and len(self.names()) >= 40:
-            due.add("TooMany")
-        return due
-
-    def refusal(self, deed):
-        order = ("NoName", "NoMeasure", "Unknown", "Taken", "NotYet", "Dead", "NoHeir", "TooMany")
-        return next((name for name in order if name in self.due(deed)), None)
 
 
 def answers(folk, days):

@@ -6,7 +6,7 @@ import unittest
 
 from forsworn.folk import Folk
 from forsworn.goods import holder, road
-from tests.helper import deep
+from tests.helper import deep, walked
 
 NAMES = ["ann", "bob", "cid", "dan", "eve", "fay"]
 
@@ -18,28 +18,6 @@ def folk_of(*deaths):
     for name, day, heir in deaths:
         folk.die(name, day, heir)
     return folk
-
-
-def walked(brought, events, folk, heirs, day):
-    """A plain walk day by day: each step is written on the day on which it comes about."""
-    steps = []
-    for today in range(brought[1], day + 1):
-        if today == brought[1]:
-            steps.append((today, "brought", None, brought[0]))
-        for event in [event for event in events if event[0] == today]:
-            walk_on(steps, folk, heirs, today)
-            held_by = steps[-1][3]
-            if event[1] == "won":
-                steps.append((today, "won", held_by, event[3]))
-            elif event[2] == folk.stands_for(held_by, today):
-                steps.append((today, "given", event[2], event[3]))
-        walk_on(steps, folk, heirs, today)
-    return steps
-
-
-def walk_on(steps, folk, heirs, today):
-    while folk.dead(steps[-1][3], today):
-        steps.append((today, "left", steps[-1][3], heirs[steps[-1][3]]))
 
 
 class Road(unittest.TestCase):

@@ -241,6 +241,31 @@ class Fewest(unittest.TestCase, Refusing):
             if told is not None:
                 self.assertEqual(len(told), fewest_by_row(suits, case))
 
+    def test_a_need_of_nought_or_less(self):
+        # Nothing makes the second case fall: it has no oath for it that could be broken.
+        for need in (0, -1, -2):
+            suits = [suit([("ann", 5)], [("bob", 2)], 2), suit([], [], need, (0, "ann"))]
+            self.assertEqual(settled(suits), [False, True])
+            self.assertEqual([fewest(suits, case) for case in (0, 1)], [None, None])
+            suits = [suit([("ann", 5), ("cid", 2)], [("bob", 2)], 2), suit([], [], need, (0, "ann"))]
+            self.assertEqual([fewest(suits, case) for case in (0, 1)], [[(0, "bob")], None])
+            suits = [suit([("ann", 2)], [("bob", 9)], 2), suit([], [], need, (0, "bob"))]
+            self.assertEqual([fewest(suits, case) for case in (0, 1)], [[(0, "ann")], None])
+
+    def test_needs_of_nought_against_all_lists(self):
+        none = 0
+        for seed in range(150):
+            chance = random.Random(seed)
+            suits = made_suits(seed, 2 + seed % 4, side=2, weight=4, need=5, naming=0.95)
+            suits = [(ones, others, chance.choice((need, 0, -1)), named) for ones, others, need, named in suits]
+            if len(all_oaths(suits)) <= 12:
+                for case in range(len(suits)):
+                    told = fewest(suits, case)
+                    self.assertEqual(None if told is None else len(told), fewest_of_all_lists(suits, case))
+                    self.assertTrue(told is None or turns(suits, case, told))
+                    none += told is None
+        self.assertGreater(none, 20)
+
     def test_a_case_that_is_not_there(self):
         for suits in ([], [suit([], [], 1)], line_of_suits(1, 60, 12)):
             for case in (-1, -2, -len(suits), -FAR, len(suits), len(suits) + 1, FAR):

@@ -1,81 +1,101 @@
-"""The refusals. Each is made with a text; only its class counts, its words are free."""
+"""The refusals. Each is made with a text, whose words are free, and knows what its class is called."""
 
 
 class MootError(ValueError):
-    pass
+    def called(self):
+        return "MootError"
 
 
 class NoName(MootError):
-    pass
+    def called(self):
+        return "NoName"
 
 
 class NoMeasure(MootError):
-    pass
+    def called(self):
+        return "NoMeasure"
 
 
 class Unknown(MootError):
-    pass
+    def called(self):
+        return "Unknown"
 
 
 class Taken(MootError):
-    pass
+    def called(self):
+        return "Taken"
 
 
 class NoThing(MootError):
-    pass
+    def called(self):
+        return "NoThing"
 
 
 class NoCase(MootError):
-    pass
+    def called(self):
+        return "NoCase"
 
 
 class NoOath(MootError):
-    pass
+    def called(self):
+        return "NoOath"
 
 
 class NotYet(MootError):
-    pass
+    def called(self):
+        return "NotYet"
 
 
 class Dead(MootError):
-    pass
+    def called(self):
+        return "Dead"
 
 
 class NoHeir(MootError):
-    pass
+    def called(self):
+        return "NoHeir"
 
 
 class TooMany(MootError):
-    pass
+    def called(self):
+        return "TooMany"
 
 
 class SwornTwice(MootError):
-    pass
+    def called(self):
+        return "SwornTwice"
 
 
 class Forsworn(MootError):
-    pass
+    def called(self):
+        return "Forsworn"
 
 
 class TooLight(MootError):
-    pass
+    def called(self):
+        return "TooLight"
 
 
 class Broken(MootError):
-    pass
+    def called(self):
+        return "Broken"
 
 
 class NoMoment(MootError):
-    pass
+    def called(self):
+        return "NoMoment"
 
 
 class NothingBack(MootError):
-    pass
+    def called(self):
+        return "NothingBack"
 
 
 class NothingForth(MootError):
-    pass
+    def called(self):
+        return "NothingForth"
 
 
 class NoDeed(MootError):
-    pass
+    def called(self):
+        return "NoDeed"

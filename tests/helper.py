@@ -575,6 +575,61 @@ def made_moot(seed, many, names=MADE_NAMES, last=20):
     return moot, tried
 
 
+def full_sides(chance, moot):
+    free = [name for name in FORTY if not moot.forsworn(name) and not moot.dead(name, 9999)]
+    chance.shuffle(free)
+    return free[:12], free[12:12 + chance.choice((0, 11, 12, 12))]
+
+
+def full_case(chance, moot):
+    ones, others = full_sides(chance, moot)
+    heavy = sum(moot.weight(name, 500) for name in ones)
+    lead = heavy - sum(moot.weight(name, 500) for name in others)
+    need = min(12000, max(1, min(heavy, lead + chance.randint(-900, 300))))
+    word = chance.choice(("claim", "wergild", "accuse", "accuse", "accuse"))
+    if word == "accuse" and moot.cases():
+        case = max(0, moot.cases() - chance.choice((1, 1, 1, 2, 5)))
+        return (word, case, chance.choice(swearers(moot.suits()[case])), 500, need, ones, others)
+    if word == "claim":
+        return (word, chance.choice(FORTY), chance.randrange(40), 500, need, ones, others)
+    return ("wergild", chance.choice(FORTY), chance.choice(FORTY), 1000000, 500, need, ones, others)
+
+
+def full_other(chance, moot):
+    word = chance.choice(("give", "give", "pay", "rise", "penance", "penance"))
+    one, other = chance.choice(FORTY), chance.choice(FORTY)
+    day = chance.randint(50, 9999)
+    if word == "give":
+        thing = chance.randrange(40)
+        return (word, thing, chance.choice((one, moot.holder(thing, day))), other, day)
+    if word == "pay":
+        return (word, one, other, chance.randint(1, 1000000), day)
+    if word == "rise":
+        return (word, one, day, chance.randint(1, 1000))
+    forsworn = [name for name in FORTY if moot.forsworn(name)]
+    return (word, chance.choice(forsworn or FORTY))
+
+
+def full_moot(seed):
+    """A moot of 40 folk, 40 things, 60 cases and 400 moments."""
+    chance = random.Random(seed)
+    moot = Moot()
+    for name in FORTY:
+        moot.come(name, chance.randint(0, 40), chance.randint(500, 1000))
+    for thing in range(40):
+        moot.bring(chance.choice(FORTY), chance.randint(40, 50))
+    while moot.now() < 400:
+        behind = moot.cases() * 5 < moot.now() - 80
+        deed = full_case(chance, moot) if behind and moot.cases() < 60 else full_other(chance, moot)
+        if moot.now() in (200, 250, 300):
+            deed = ("die", chance.choice(FORTY), 9000, chance.choice(FORTY))
+        try:
+            done(moot, deed)
+        except MootError:
+            pass
+    return moot
+
+
 def deep(value):
     """A text of a value with all that lies in it, to hold it against itself later."""
     return repr(value)

@@ -140,6 +140,22 @@ class Form(unittest.TestCase):
             inner = [node for top in tree.body for node in ast.walk(top) if node != top]
             self.assertFalse([node for node in inner if isinstance(node, (ast.ClassDef, ast.ImportFrom))])
 
+    def test_top_values(self):
+        for path, text, tree in self.each():
+            above = parents(tree)
+            kept = {node.targets[0].id: node.value for node in tree.body if isinstance(node, ast.Assign)}
+            for value in kept.values():
+                self.assertNotIsInstance(value, (ast.ListComp, ast.Call, ast.Name, ast.Set), where(path, value))
+                for node in [node for node in ast.walk(value) if node != value]:
+                    self.assertIsInstance(node, (ast.Constant, ast.Tuple, ast.expr_context), where(path, value))
+            held = [name for name in kept if isinstance(kept[name], (ast.List, ast.Dict))]
+            for node in ast.walk(tree):
+                if isinstance(node, ast.Name) and node.id in held and isinstance(node.ctx, ast.Load):
+                    over = above[node]
+                    is_read = isinstance(over, ast.Subscript) and isinstance(over.ctx, ast.Load) and over.value == node
+                    is_asked = isinstance(over, ast.Compare) and node in over.comparators
+                    self.assertTrue(is_read or is_asked, where(path, node))
+
     def test_imports(self):
         drawn = {}
         for path, text, tree in self.each():

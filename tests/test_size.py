@@ -1,70 +1,13 @@
 """Moots of the full size: 40 folk, 40 things, 60 cases, 400 moments. They are asked all questions soon."""
 
-import random
 import time
 import unittest
 
-from forsworn.deeds import done
-from forsworn.errors import MootError
 from forsworn.known import moved, turned
 from forsworn.moot import Moot
-from tests.helper import FORTY, QUESTIONS, Refusing, all_told, swearers
+from tests.helper import FORTY, QUESTIONS, Refusing, all_told, full_moot
 
 SOON = 60
-
-
-def made_sides(chance, moot):
-    free = [name for name in FORTY if not moot.forsworn(name) and not moot.dead(name, 9999)]
-    chance.shuffle(free)
-    return free[:12], free[12:12 + chance.choice((0, 11, 12, 12))]
-
-
-def made_case(chance, moot):
-    ones, others = made_sides(chance, moot)
-    heavy = sum(moot.weight(name, 500) for name in ones)
-    lead = heavy - sum(moot.weight(name, 500) for name in others)
-    need = min(12000, max(1, min(heavy, lead + chance.randint(-900, 300))))
-    word = chance.choice(("claim", "wergild", "accuse", "accuse", "accuse"))
-    if word == "accuse" and moot.cases():
-        case = max(0, moot.cases() - chance.choice((1, 1, 1, 2, 5)))
-        return (word, case, chance.choice(swearers(moot.suits()[case])), 500, need, ones, others)
-    if word == "claim":
-        return (word, chance.choice(FORTY), chance.randrange(40), 500, need, ones, others)
-    return ("wergild", chance.choice(FORTY), chance.choice(FORTY), 1000000, 500, need, ones, others)
-
-
-def made_other(chance, moot):
-    word = chance.choice(("give", "give", "pay", "rise", "penance", "penance"))
-    one, other = chance.choice(FORTY), chance.choice(FORTY)
-    day = chance.randint(50, 9999)
-    if word == "give":
-        thing = chance.randrange(40)
-        return (word, thing, chance.choice((one, moot.holder(thing, day))), other, day)
-    if word == "pay":
-        return (word, one, other, chance.randint(1, 1000000), day)
-    if word == "rise":
-        return (word, one, day, chance.randint(1, 1000))
-    forsworn = [name for name in FORTY if moot.forsworn(name)]
-    return (word, chance.choice(forsworn or FORTY))
-
-
-def full_moot(seed):
-    chance = random.Random(seed)
-    moot = Moot()
-    for name in FORTY:
-        moot.come(name, chance.randint(0, 40), chance.randint(500, 1000))
-    for thing in range(40):
-        moot.bring(chance.choice(FORTY), chance.randint(40, 50))
-    while moot.now() < 400:
-        behind = moot.cases() * 5 < moot.now() - 80
-        deed = made_case(chance, moot) if behind and moot.cases() < 60 else made_other(chance, moot)
-        if moot.now() in (200, 250, 300):
-            deed = ("die", chance.choice(FORTY), 9000, chance.choice(FORTY))
-        try:
-            done(moot, deed)
-        except MootError:
-            pass
-    return moot
 
 
 class FullSize(unittest.TestCase, Refusing):
